@@ -1,0 +1,1 @@
+"""Fitruns: which totals are sure when few counters count in turns."""

@@ -1,0 +1,45 @@
+"""Questions: weights of kinds and of steps, and the worth that they give to a run."""
+
+from fitruns.errors import BadQuestion, BadRange, BadRun
+from fitruns.forms import is_ascending, is_integer, is_integer_from, is_name, is_row
+
+
+def _is_item(value):
+    if not is_row(value, 3) or value[0] not in ("kind", "step"):
+        return False
+    return is_name(value[1]) and is_integer(value[2]) and value[2] != 0
+
+
+def is_question(value):
+    """Whether any value is a question."""
+    if not isinstance(value, tuple) or not all([_is_item(part) for part in value]):
+        return False
+    # Without the weights: the same sort and name must not come twice with two weights.
+    return is_ascending([(sort, name) for sort, name, _ in value])
+
+
+def _worth_of_step(step, weights):
+    name, happenings, _ = step
+    counted = [many * weights.get(("kind", kind), 0) for kind, many in happenings]
+    return weights.get(("step", name), 0) + sum(counted)
+
+
+def _worths_of_steps(program, question):
+    """A dict that gives each name of a step what one visit to it adds."""
+    weights = {(sort, name): weight for sort, name, weight in question}
+    return {step[0]: _worth_of_step(step, weights) for step in program.steps}
+
+
+def worth(program, question, run, *, since=0, until=None):
+    """What the steps of the run at the places from since up to until are worth, added up."""
+    if not is_question(question):
+        raise BadQuestion(question)
+    if not program.is_run(run):
+        raise BadRun(run)
+    if not is_integer_from(since, 0):
+        raise BadRange(since)
+    if until is not None and not is_integer_from(until, since):
+        raise BadRange(until)
+    end = len(run) if until is None else until
+    worths = _worths_of_steps(program, question)
+    return sum([worths[name] for name in run[since:end]])
