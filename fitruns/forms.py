@@ -29,3 +29,8 @@ def is_row(value, width):
 def is_ascending(items):
     """Whether items that can be compared with one another are sorted, none of them twice."""
     return all([item < later for item, later in zip(items, items[1:])])
+
+
+def are_names(value):
+    """Whether the value is an ascending tuple of names, perhaps of none."""
+    return isinstance(value, tuple) and all([is_name(part) for part in value]) and is_ascending(value)

@@ -1,7 +1,7 @@
 """Programs: steps that follow one another, each with its happenings, and their runs."""
 
-from fitruns.errors import BadLength, BadProgram, NoKind, NoStep
-from fitruns.forms import is_ascending, is_integer_within, is_name, is_row
+from fitruns.errors import BadLength, BadProgram, BadRun, NoKind, NoStep
+from fitruns.forms import are_names, is_ascending, is_integer_within, is_name, is_row
 
 
 def _is_happening(value):
@@ -15,14 +15,10 @@ def _are_happenings(value):
     return is_ascending([kind for kind, _ in value])
 
 
-def _are_followers(value):
-    if not isinstance(value, tuple) or len(value) > 3:
-        return False
-    return all([is_name(part) for part in value]) and is_ascending(value)
-
-
 def _is_step(value):
-    return is_row(value, 3) and is_name(value[0]) and _are_happenings(value[1]) and _are_followers(value[2])
+    if not is_row(value, 3) or not is_name(value[0]) or not _are_happenings(value[1]):
+        return False
+    return are_names(value[2]) and len(value[2]) <= 3
 
 
 def _are_steps(value):
@@ -106,3 +102,9 @@ class Program:
                 # The least one has to lie on top, to be taken up next.
                 for name in reversed(self._followers[run[-1]]):
                     begun.append(run + (name,))
+
+
+def check_run(program, run):
+    """Raise BadRun for any value that is no run of the program."""
+    if not program.is_run(run):
+        raise BadRun(run)

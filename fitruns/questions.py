@@ -1,7 +1,8 @@
 """Questions: weights of kinds and of steps, and the worth that they give to a run."""
 
-from fitruns.errors import BadQuestion, BadRange, BadRun
+from fitruns.errors import BadQuestion, BadRange
 from fitruns.forms import is_ascending, is_integer, is_integer_from, is_name, is_row
+from fitruns.programs import check_run
 
 
 def _is_item(value):
@@ -24,22 +25,31 @@ def _worth_of_step(step, weights):
     return weights.get(("step", name), 0) + sum(counted)
 
 
-def _worths_of_steps(program, question):
+def worths_of_steps(program, question):
     """A dict that gives each name of a step what one visit to it adds."""
     weights = {(sort, name): weight for sort, name, weight in question}
     return {step[0]: _worth_of_step(step, weights) for step in program.steps}
 
 
-def worth(program, question, run, *, since=0, until=None):
-    """What the steps of the run at the places from since up to until are worth, added up."""
+def check_question(question):
+    """Raise BadQuestion for any value that is no question."""
     if not is_question(question):
         raise BadQuestion(question)
-    if not program.is_run(run):
-        raise BadRun(run)
+
+
+def check_range(since, until):
+    """Raise BadRange for any values that are no places from which and up to which to add up."""
     if not is_integer_from(since, 0):
         raise BadRange(since)
     if until is not None and not is_integer_from(until, since):
         raise BadRange(until)
+
+
+def worth(program, question, run, *, since=0, until=None):
+    """What the steps of the run at the places from since up to until are worth, added up."""
+    check_question(question)
+    check_run(program, run)
+    check_range(since, until)
     end = len(run) if until is None else until
-    worths = _worths_of_steps(program, question)
+    worths = worths_of_steps(program, question)
     return sum([worths[name] for name in run[since:end]])
