@@ -39,13 +39,17 @@ def _check_kinds(kinds):
         raise BadKinds(kinds)
 
 
+def rows_over(choices):
+    """All tuples with one part of each choice, the first choice changing last."""
+    rows = [()]
+    for parts in choices:
+        rows = [row + (part,) for row in rows for part in parts]
+    return rows
+
+
 def _settings_over(counters, kinds):
     """All settings that put no counter on another kind than these, ascending."""
-    settings = [()]
-    for able, _ in counters:
-        parts = [None] + [kind for kind in kinds if kind in able]
-        settings = [setting + (part,) for setting in settings for part in parts]
-    return settings
+    return rows_over([[None] + [kind for kind in kinds if kind in able] for able, _ in counters])
 
 
 def _subsets(kinds):

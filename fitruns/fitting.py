@@ -8,12 +8,12 @@ from fitruns.records import agrees, check_sheet, counted, happenings_by_step
 
 
 def _turns_by_tick(heard):
-    """A list with (setting, shown) for each tick: shown what the counters have to show where a turn ends, else None."""
+    """A list with (setting, turn, shown) for each tick: shown what the counters show where the turn ends, else None."""
     turns = []
-    for length, setting, counts in heard:
-        turns.extend([(setting, None)] * (length - 1))
+    for turn, (length, setting, counts) in enumerate(heard):
+        turns.extend([(setting, turn, None)] * (length - 1))
         # A counter on nothing shows 0, so that its None can be compared like any other count.
-        turns.append((setting, tuple([0 if count is None else count for count in counts])))
+        turns.append((setting, turn, tuple([0 if count is None else count for count in counts])))
     return turns
 
 
@@ -32,39 +32,48 @@ class Course:
         self._nothing = (0,) * len(counters)
         self.ticks = len(self._turns[0])
 
-    def _shown_behind(self, tick, shown, name):
-        """What is shown for each record behind this tick in this step, None if a turn ends otherwise than told."""
-        behind = []
-        for turns, ahead in zip(self._turns, shown):
-            setting, wanted = turns[tick]
+    def _stepped(self, tick, shown, name):
+        """What is shown for each record behind this tick in this step, and the readings of others than its counts."""
+        behind, missed = [], []
+        for place, (turns, ahead) in enumerate(zip(self._turns, shown)):
+            setting, turn, wanted = turns[tick]
             part = counted(self.counters, setting, ahead, self._happened[name])
-            if wanted is not None and part != wanted:
-                return None
             behind.append(part if wanted is None else self._nothing)
-        return tuple(behind)
+            if wanted is not None and part != wanted:
+                differing = [counter for counter, many in enumerate(part) if many != wanted[counter]]
+                missed.extend([(place, turn, counter) for counter in differing])
+        return tuple(behind), missed
 
     def _goes_on_at_the_end(self, tick, name):
         return self.ended and tick == self.ticks - 1 and len(self.program.following(name)) > 0
 
     def _entered(self, tick, shown, names):
-        """The states behind this tick, spent in each of these steps, that do not break."""
-        states = []
+        """Pairs (state behind this tick, missed readings) for each of these steps that does not break by the end."""
+        pairs = []
         for name in names:
-            behind = self._shown_behind(tick, shown, name)
-            if behind is not None and not self._goes_on_at_the_end(tick, name):
-                states.append((name, behind))
-        return states
+            if not self._goes_on_at_the_end(tick, name):
+                behind, missed = self._stepped(tick, shown, name)
+                pairs.append(((name, behind), missed))
+        return pairs
 
-    def beginnings(self):
-        """A list of the one state behind one tick, empty if it breaks."""
+    def openings(self):
+        """A list of the one pair (state behind one tick, missed readings), empty if it breaks by the end."""
         return self._entered(0, (self._nothing,) * len(self._turns), self.program.names[:1])
 
-    def followers(self, t, state):
-        """The list of the states that follow this one behind t ticks and do not break, ascending."""
+    def leads(self, t, state):
+        """Pairs (state, missed readings) for what follows behind t ticks and does not break by the end, ascending."""
         if t == self.ticks:
             return []
         name, shown = state
         return self._entered(t, shown, self.program.following(name))
+
+    def beginnings(self):
+        """A list of the one state behind one tick, empty if it breaks."""
+        return [state for state, missed in self.openings() if len(missed) == 0]
+
+    def followers(self, t, state):
+        """The list of the states that follow this one behind t ticks and do not break, ascending."""
+        return [follower for follower, missed in self.leads(t, state) if len(missed) == 0]
 
     def _is_shown(self, value):
         if not is_row(value, len(self.counters)):

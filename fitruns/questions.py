@@ -1,6 +1,6 @@
 """Questions: weights of kinds and of steps, and the worth that they give to a run."""
 
-from fitruns.errors import BadQuestion, BadRange
+from fitruns.errors import BadCount, BadQuestion, BadRange
 from fitruns.forms import is_ascending, is_integer, is_integer_from, is_name, is_row
 from fitruns.programs import check_run
 
@@ -35,6 +35,12 @@ def check_question(question):
     """Raise BadQuestion for any value that is no question."""
     if not is_question(question):
         raise BadQuestion(question)
+
+
+def check_most(most):
+    """Raise BadCount for any value that cannot be the most by which worths may differ."""
+    if not is_integer_from(most, 0):
+        raise BadCount(most)
 
 
 def check_range(since, until):

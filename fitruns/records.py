@@ -1,7 +1,7 @@
 """Plans of turns, what is recorded of a run under them, and sheets of records that runs may fit."""
 
 from fitruns.counters import check_counters, suits
-from fitruns.errors import BadPlan, BadSheet
+from fitruns.errors import BadLengths, BadPlan, BadSheet
 from fitruns.forms import is_integer_from, is_integer_within, is_row
 from fitruns.programs import check_run
 
@@ -10,11 +10,24 @@ def _is_turn(counters, value):
     return is_row(value, 2) and is_integer_within(value[0], 1, 8) and suits(counters, value[1])
 
 
+def is_plan(counters, value):
+    """Whether any value is a plan for what are counters for sure."""
+    if not isinstance(value, tuple) or not 1 <= len(value) <= 4:
+        return False
+    return all([_is_turn(counters, turn) for turn in value])
+
+
 def check_plan(counters, plan):
     """Raise BadPlan for any value that is no plan for the counters."""
-    right = isinstance(plan, tuple) and 1 <= len(plan) <= 4
-    if not right or not all([_is_turn(counters, turn) for turn in plan]):
+    if not is_plan(counters, plan):
         raise BadPlan(plan)
+
+
+def check_lengths(lengths):
+    """Raise BadLengths for any value that is no tuple of lengths of the turns of a plan that is to be chosen."""
+    right = isinstance(lengths, tuple) and 1 <= len(lengths) <= 3
+    if not right or not all([is_integer_within(length, 1, 6) for length in lengths]):
+        raise BadLengths(lengths)
 
 
 def _is_count(kind, size, value):
@@ -23,7 +36,8 @@ def _is_count(kind, size, value):
     return is_integer_from(value, 0) and (size is None or value < size)
 
 
-def _are_counts(counters, setting, value):
+def are_counts(counters, setting, value):
+    """Whether any value is what counters show in this setting."""
     if not is_row(value, len(counters)):
         return False
     return all([_is_count(kind, size, count) for (_, size), kind, count in zip(counters, setting, value)])
@@ -32,7 +46,7 @@ def _are_counts(counters, setting, value):
 def _is_heard_turn(counters, value):
     if not is_row(value, 3) or not _is_turn(counters, value[:2]):
         return False
-    return _are_counts(counters, value[1], value[2])
+    return are_counts(counters, value[1], value[2])
 
 
 def _is_heard(counters, value):

@@ -1,7 +1,8 @@
 """What totals over the runs that fit a sheet are sure: the least and the greatest worth, and heights that show them."""
 
-from fitruns.fitting import Course, fitting_layers, least_run, reached_layers
-from fitruns.forms import is_ascending, is_integer, is_integer_within, is_row
+from fitruns.fitting import Course, fitting_layers, least_run
+from fitruns.forms import is_integer
+from fitruns.heights import are_heights, lowest_heights, show_no_less
 from fitruns.questions import check_question, check_range, worths_of_steps
 
 
@@ -21,6 +22,14 @@ class Asked:
         nothing = {name: 0 for name in worths}
         end = self.course.ticks if until is None else until
         self.gains = [signed if since <= place < end else nothing for place in range(self.course.ticks)]
+
+    def openings(self):
+        """Pairs (state, gain) for the one state behind one tick, if it does not break."""
+        return [(state, self.gains[0][state[0]]) for state in self.course.beginnings()]
+
+    def leads(self, t, state):
+        """Pairs (state, gain) for what follows this state behind t ticks and does not break."""
+        return [(follower, self.gains[t][follower[0]]) for follower in self.course.followers(t, state)]
 
 
 def _gains_ahead(layers, gains):
@@ -86,21 +95,6 @@ def visits(program, counters, sheet):
     return tuple(rows)
 
 
-def _least_heights(asked):
-    """Rows (t, state, height) of all states that runs come to, the height the least worth on a way there."""
-    rows = []
-    lowest = {state: asked.gains[0][state[0]] for state in asked.course.beginnings()}
-    for t, layer in enumerate(reached_layers(asked.course), start=1):
-        rows.extend([(t, state, lowest[state]) for state in sorted(layer)])
-        later = {}
-        for state, followers in layer.items():
-            for follower in followers:
-                height = lowest[state] + asked.gains[t][follower[0]]
-                later[follower] = min(height, later.get(follower, height))
-        lowest = later
-    return rows
-
-
 def _extreme(asked):
     """(value, run, heights) of least, and of greatest if the sign is -1."""
     layers = fitting_layers(asked.course)
@@ -108,47 +102,16 @@ def _extreme(asked):
         return None
     value = asked.sign * _least_gain(layers, asked.gains)
     run = least_run(_cheapest_layers(layers, asked.gains))
-    heights = [(t, state, asked.sign * height) for t, state, height in _least_heights(asked)]
+    heights = [(t, state, asked.sign * height) for t, state, height in lowest_heights(asked)]
     return (value, run, tuple(heights))
-
-
-def _is_height_row(course, value):
-    if not is_row(value, 3) or not is_integer_within(value[0], 1, course.ticks):
-        return False
-    return course.is_state(value[1]) and is_integer(value[2])
-
-
-def _are_heights(course, value):
-    if not isinstance(value, tuple) or not all([_is_height_row(course, row) for row in value]):
-        return False
-    # Without the heights: the same t and state must not come twice with two heights.
-    return is_ascending([(t, state) for t, state, _ in value])
-
-
-def _are_low(asked, known, t, states, height):
-    """Whether all these states behind t ticks have a row, none higher than this height and what it gains there."""
-    gain = asked.gains[t - 1]
-    return all([(t, state) in known and known[(t, state)] <= height + gain[state[0]] for state in states])
-
-
-def _lead_on(asked, rows):
-    """Whether what begins, and what follows each row, has a row that is low enough."""
-    known = {(t, state): height for t, state, height in rows}
-    if not _are_low(asked, known, 1, asked.course.beginnings(), 0):
-        return False
-    # Nothing follows behind the last tick.
-    ahead = [row for row in rows if row[0] < asked.course.ticks]
-    return all([_are_low(asked, known, t + 1, asked.course.followers(t, state), height) for t, state, height in ahead])
 
 
 def _shows_extreme(asked, value, heights):
     """Whether any heights show that no run that fits lies below the value, or above it if the sign is -1."""
-    if not is_integer(value) or not _are_heights(asked.course, heights):
+    if not is_integer(value) or not are_heights(asked.course, heights):
         return False
     rows = [(t, state, asked.sign * height) for t, state, height in heights]
-    if any([t == asked.course.ticks and height < asked.sign * value for t, _, height in rows]):
-        return False
-    return _lead_on(asked, rows)
+    return show_no_less(asked, rows, asked.sign * value)
 
 
 def least(program, counters, sheet, question, *, since=0, until=None):

@@ -96,3 +96,40 @@ def some_sheets(random, many, longest=6):
             records[at] = with_other_count(random, counters, records[at])
         ended = random.random() < (0.6 if plain.is_whole(steps, run) else 0.2)
         yield steps, counters, (tuple(records), ended)
+
+
+# Programs of at most five steps for runs of all lengths: with and without rings, some without a whole run.
+TWO_WAYS = (("in", (), ("cold", "hot")), ("hot", (("miss", 3),), ("out",)), ("cold", (("hit", 2),), ("out",)), ("out", (), ()))
+# Three ways of different lengths, and one step that nothing leads to.
+FORK = (
+    ("s", (("x", 1),), ("p", "q", "r")),
+    ("p", (("x", 2), ("y", 1)), ("q", "t")),
+    ("q", (("y", 1),), ("t",)),
+    ("r", (("x", 1), ("z", 2)), ("t",)),
+    ("t", (("z", 1),), ()),
+    ("gone", (("x", 5),), ("gone", "t")),
+)
+# One ring of one step, left at any time; what it adds is also counted ahead of it.
+WAITS = (("a", (("x", 2),), ("b", "c")), ("b", (("x", 1), ("y", 1)), ("b", "c")), ("c", (("y", 2),), ("d",)), ("d", (), ()))
+# A ring from which no way leads to an end, beside one that does.
+LOST = (("a", (), ("b", "e")), ("b", (("x", 1),), ("b", "c")), ("c", (("x", 2), ("y", 1)), ("b",)), ("e", (("y", 1),), ("e", "f")), ("f", (), ()))
+APART = (DIAMOND, LOOPS, FULL, ROUNDS, RING, STAYS, ALONE, TWO_WAYS, FORK, WAITS, LOST)
+
+
+def some_program(random):
+    """Steps of a program of two to four steps, drawn by chance; some step mostly has nothing behind it."""
+    names = "abcd"[:random.choice((2, 3, 3, 4))]
+    steps = []
+    for name in names:
+        kinds = sorted(random.sample("xyz", random.choice((0, 1, 1, 2))))
+        many = 0 if name == names[-1] and random.random() < 0.9 else random.choice((1, 1, 2, 2, 3))
+        following = sorted(random.sample(names, min(many, len(names))))
+        steps.append((name, tuple((kind, random.choice((1, 1, 2, 3))) for kind in kinds), tuple(following)))
+    return tuple(steps)
+
+
+def short_plan(random, counters, longest=6):
+    """A plan of one to three turns, none longer than this, drawn by chance."""
+    settings = plain.all_settings(counters)
+    lengths = [length for length in (1, 1, 2, 2, 3, 4, 6) if length <= longest]
+    return tuple((random.choice(lengths), random.choice(settings)) for _ in range(random.choice((1, 1, 2, 3))))
