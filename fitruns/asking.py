@@ -94,7 +94,8 @@ class Asking:
                 states = self._stepped(setting, tick, states)
             gains = {}
             for (part, counts), span in states.items():
-                gains.setdefault(counts, {})[part] = span
+                later = gains.setdefault(counts, {})
+                later[part] = span
             self._known_gains[key] = gains
         return self._known_gains[key]
 
@@ -184,11 +185,10 @@ class Asking:
 
     def _are_twins(self, one, other, way, fewest):
         """Whether any values are whole runs with all these counts that differ by at least so much."""
-        if not self.program.is_run(one) or not self.program.is_run(other):
-            return False
         sheet = ((way,), True)
-        if not all([agrees(self.program, self.counters, sheet, run) for run in (one, other)]):
-            return False
+        for run in (one, other):
+            if not self.program.is_run(run) or not agrees(self.program, self.counters, sheet, run):
+                return False
         return worth(self.program, self.question, one) - worth(self.program, self.question, other) >= fewest
 
 

@@ -37,11 +37,6 @@ def _check_number(counters, lengths):
         raise TooMany(number)
 
 
-def _rank(plan):
-    """What Python compares as plans are compared: None comes ahead of all names."""
-    return [["" if kind is None else kind for kind in setting] for _, setting in plan]
-
-
 def _is_covered(plan, other):
     """Whether the plan is the other one, or coarser."""
     turns = [(setting, finer) for (_, setting), (_, finer) in zip(plan, other)]
@@ -74,7 +69,8 @@ class Choice:
         """A list of all plans with these lengths: what costs less comes ahead, of the same cost what is less."""
         settings = rows_over([(None,) + able for able, _ in self._counters])
         plans = rows_over([[(length, setting) for setting in settings] for length in self._lengths])
-        return sorted(plans, key=lambda plan: (self.cost(plan), _rank(plan)))
+        # They ascend so far, and sorting keeps the order of those with the same cost.
+        return sorted(plans, key=lambda plan: self.cost(plan))
 
     def is_among_plans(self, value):
         """Whether any value is a plan with these lengths."""

@@ -57,7 +57,7 @@ def rings_in_order(followers):
     rings = [None] * len(followers)
     number = 0
     for root in reversed(_by_end(followers)):
-        waiting = [root] if rings[root] is None else []
+        waiting = [root]
         while waiting:
             node = waiting.pop()
             if rings[node] is None:

@@ -93,9 +93,9 @@ def _roots(rings):
 
 
 def _heights(graph, followers, trees):
-    """The greatest gain up to each live node, where no ring gains or loses anything; the rings' trees are in order."""
+    """The greatest gain up to each live node, where no ring gains or loses anything; what their trees reach is in order."""
     heights = {0: graph.gains[0]}
-    for reached, _ in trees:
+    for reached in trees:
         # How high the root would have to be, by each node of its ring to which a way from outside comes.
         bases = [heights[node] - reached[node] for node in reached if node in heights]
         for node in reached:
@@ -133,7 +133,7 @@ def how_far_apart(pairs):
         step = _uneven_step(inside, graph.gains, reached)
         if step is not None:
             return _grown(graph, _growing_ring(inside, graph.gains, came, root, step))
-        trees.append((reached, root))
+        trees.append(reached)
     return _most_apart(graph, followers, _heights(graph, followers, trees))
 
 

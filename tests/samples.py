@@ -128,6 +128,17 @@ def some_program(random):
     return tuple(steps)
 
 
+def ringed_program(random):
+    """Steps of a program of four or five steps with many rings and one end, drawn by chance."""
+    names = "abcde"[:random.choice((4, 4, 5))]
+    steps = []
+    for name in names[:-1]:
+        kinds = sorted(random.sample("xy", random.choice((0, 0, 1, 2))))
+        following = sorted(random.sample(names, random.choice((1, 2, 2, 3))))
+        steps.append((name, tuple((kind, random.choice((1, 2))) for kind in kinds), tuple(following)))
+    return tuple(steps) + ((names[-1], (), ()),)
+
+
 def short_plan(random, counters, longest=6):
     """A plan of one to three turns, none longer than this, drawn by chance."""
     settings = plain.all_settings(counters)

@@ -9,7 +9,7 @@ from fitruns.asking import best, shows_best
 from fitruns.errors import BadCounters, BadLengths, BadQuestion, TooMany
 from fitruns.programs import Program
 from tests import plain, plain_plans
-from tests.samples import ALONE, DIAMOND, FORK, FULL, LOOPS, LOST, RING, ROUNDS, TWO_WAYS, WAITS, some_program
+from tests.samples import ALONE, DIAMOND, FORK, FULL, LOOPS, LOST, RING, ROUNDS, TWO_WAYS, WAITS, ringed_program, some_program
 from tests.support import ANY_VALUES, FitTest, is_int, twists
 from tests.test_questions import judged_question
 from tests.test_twins import HIT, MISS, QUESTIONS, X
@@ -20,13 +20,26 @@ SMALL = (
     ((("x", "y"), None), (("x", "z"), 2)), ((("tick", "z"), 4),), ((("hit", "miss"), 2),),
 )
 MODULO = ((("hit",), 2),)
+# Runs that come to one turn in many ways, so that what is told of one way must not be taken for another one.
+HARD = (
+    ((("a", (("y", 1),), ("a", "b", "d")), ("b", (("x", 2),), ("b", "c")), ("c", (), ("a", "c", "d")), ("d", (), ())),
+     ((("x",), None),), (2, 2, 2), (("kind", "z", -1), ("step", "a", 2), ("step", "p", 2), ("step", "q", 1))),
+    ((("a", (), ("b", "c", "e")), ("b", (("y", 1),), ("b", "e")), ("c", (), ("a", "b")), ("d", (), ("d", "e")), ("e", (), ())),
+     ((("x", "y"), None),), (2, 1, 1), (("kind", "hit", -1), ("kind", "x", 2), ("step", "b", 3), ("step", "p", -7))),
+    ((("a", (), ("b", "c", "d")), ("b", (), ("a", "c", "d")), ("c", (("y", 1),), ("a", "b")), ("d", (), ())),
+     ((("x", "y"), None),), (2, 2, 2), (("kind", "x", -7), ("step", "a", 2))),
+    ((("a", (), ("a", "c", "d")), ("b", (("y", 2),), ("c", "d")), ("c", (), ("b", "c")), ("d", (), ())),
+     ((("x", "y", "z"), 3),), (2, 2, 2), (("kind", "hit", -2), ("kind", "z", -1), ("step", "b", -2), ("step", "c", 1))),
+    ((("a", (), ("a", "c")), ("b", (), ("a", "c")), ("c", (("x", 1),), ("a", "b", "d")), ("d", (), ())),
+     ((("x", "y"), None),), (2, 2, 1), (("kind", "y", 3), ("step", "a", 2), ("step", "d", -2))),
+)
 HOT, COLD = ("in", "hot", "out"), ("in", "cold", "out")
 
 
 def samples(draw, many):
     """Yield (steps, counters, lengths, question), drawn by chance; mostly with a whole run of this length."""
     for number in range(many):
-        steps = ALL[number // 2 % len(ALL)] if number % 2 else some_program(draw)
+        steps = ALL[number // 2 % len(ALL)] if number % 2 else some_program(draw) if number % 4 else ringed_program(draw)
         lengths = sorted({len(run) for run in plain_plans.whole_runs(steps, 7)}) or [3]
         ticks = draw.choice(lengths if draw.random() < 0.9 else [1, 2, 3, 4])
         parts = [ticks]
@@ -69,7 +82,7 @@ class TestAgainstAListing(FitTest):
     """No way to choose settings holds the difference below what best tells."""
 
     def setUp(self):
-        self.samples = list(samples(random.Random(13), 420))
+        self.samples = list(samples(random.Random(13), 700)) + list(HARD)
 
     def test_the_value_and_both_trees(self):
         values, turns = [], []
@@ -126,6 +139,21 @@ class TestByHand(FitTest):
         self.assert_like(told[1], ("count", ("x",), (((3,), ("count", ("x",), (((0,), ("tell", 3, 3)),))),)))
         for lengths in ((1,), (2,), (1, 1)):
             self.assertIsNone(best(Program(WAITS), X_ONLY, lengths, X))
+
+    def test_twins_that_are_not_whole(self):
+        # Runs of WAITS with four steps that go on behind them have the same counts as the one that ends there.
+        counters = ((("k",), None),)
+        self.assert_like(best(Program(WAITS), counters, (4,), X), (0, ("count", ("k",), (((0,), ("tell", 3, 3)),)), ("whatever", (
+            (("k",), (0,), ("twins", ("a", "b", "c", "d"), ("a", "b", "c", "d"))),))))
+        steps = (("a", (), ("b", "c")), ("b", (("x", 2),), ("d",)), ("c", (), ("d", "e")), ("d", (), ()), ("e", (("x", 5),), ("d",)))
+        told = best(Program(steps), counters, (3,), X)
+        self.assertEqual(told[0], 2)
+        for value in (told, (9,) + told[1:]):
+            for one, right in ((("a", "b", "d"), True), (("a", "c", "e"), False), (("a", "c", "e", "d"), False), (("b", "d"), False)):
+                other = ("whatever", ((("k",), (0,), ("twins", one, ("a", "c", "d"))),))
+                wanted = plain_plans.shows_best(steps, counters, (3,), X, value[:2] + (other,))
+                self.assertIs(shows_best(Program(steps), counters, (3,), X, value[:2] + (other,)), wanted)
+                self.assertIs(wanted, right and value[0] == 2)
 
     def test_no_run(self):
         for steps in (FULL, RING):
@@ -278,7 +306,8 @@ class TestErrors(FitTest):
 
     def test_too_many(self):
         kinds = tuple("abcdefghijklmnopqrstuvwxyz")
-        for counters, lengths, number in ((((kinds[:16], None), (kinds[:16], 5)), (3,), None), (((kinds[:16], None), (kinds[:17], 5)), (3,), 272),
+        more = tuple(first + other for first in kinds for other in kinds[:10])
+        for counters, lengths, number in ((((more[:256], 2),), (3,), None), (((more[:257], 2),), (3,), 257), (((kinds[:16], None), (kinds[:16], 5)), (3,), None), (((kinds[:16], None), (kinds[:17], 5)), (3,), 272),
                                           (((kinds[:16], None),), (1, 2), None), (((kinds[:17], None),), (1, 2), 289), (((kinds[:6], None),), (1, 1, 1), None),
                                           (((kinds[:7], None),), (1, 1, 1), 343), (((kinds, None), (kinds, None)), (6, 6, 6), 676 ** 3), (((kinds[:1], None),), (6, 6, 6), None)):
             for steps in (TWO_WAYS, FULL, DIAMOND):

@@ -319,7 +319,8 @@ class TestErrors(FitTest):
         self.assert_refused(4, BadCount, ANY_VALUES + [-1, "0", (0,), [0]] + [("a", value) for value in ANY_VALUES], lambda value: is_int(value) and value >= 0)
 
     def test_too_many(self):
-        for counters, lengths, number in ((HIT, (1, 1, 1), None), (((("a", "b", "c", "d", "e", "f"), None),), (1, 1, 1), 343),
+        kinds = tuple(first + other for first in "abcdefghijklmnopqrstuvwxyz" for other in "abcdefghij")
+        for counters, lengths, number in ((HIT, (1, 1, 1), None), (((kinds[:255], None),), (6,), None), (((kinds[:256], None),), (6,), 257), (((("a", "b", "c", "d", "e", "f"), None),), (1, 1, 1), 343),
                                           (((("a", "b", "c", "d", "e"), None),), (1, 1, 1), None), (((tuple("abcdefgh"), None), (tuple("abcdefghijk"), None)), (2,), None),
                                           (((tuple("abcdefghijklmnop"), None),), (2, 2), 289), (((tuple("abcdefghijklmno"), None),), (2, 2), None),
                                           (((tuple("abcdefghijklmnopqrstuvwxyz"), 3), (tuple("abcdefghijklmnopqrstuvwxyz"), 3)), (6, 6, 6), 729 ** 3)):

@@ -691,6 +691,21 @@ class TestNews(LabTest):
         lab.hear("a", 0, (3,))
         self.assertEqual(lab.news, ())
 
+    def test_news_ascend(self):
+        lab = new_lab()
+        names = ("m", "b", "zz", "a", "k", "c", "y", "aa")
+        for name in names:
+            lab.watch(name, ASKED, 5)
+        for name in names[:5]:
+            lab.begin(name, PLANS)
+            lab.hear(name, 0, (3,))
+            self.assert_like(lab.news, tuple((watch, name, None, (0, 0)) for watch in sorted(names)))
+        lab.watch("new", ASKED, 5)
+        self.assert_like(lab.news, tuple(("new", name, None, (0, 0)) for name in sorted(names[:5])))
+        lab.turn_to(Rewriting(Program(TWO_WAYS), Program(TWO_WAYS), tuple((step[0],) for step in TWO_WAYS)))
+        every = sorted(names + ("new",))
+        self.assertEqual([row[:2] for row in lab.news], [(watch, name) for watch in every for name in sorted(names[:5])])
+
     def test_a_case_that_gets_uneven(self):
         lab = new_lab()
         lab.begin("a", (((1, (None,)),), ((1, (None,)),)))
@@ -835,6 +850,22 @@ class TestErrors(LabTest):
                 self.assertEqual((repr(seen(lab)), lab.deeds), before)
         # Of a counter on nothing there is no reading.
         self.assert_raises_just(NoReading, self, some_lab().doubt, "two", 0, 1, 0, held_like=(1, 0))
+
+    def test_readings_that_are_left_out_are_told_by_numbers(self):
+        lab = new_lab(DIAMOND, TWO)
+        lab.begin("a", (((1, ("x", "y")),),))
+        lab.hear("a", 0, (1, 0))
+        lab.hear("a", 0, (2, 1))
+        lab.doubt("a", 0, 1, 1)
+        lab.doubt("a", 0, 0, 0)
+        for turn, counter in ((True, 1), (1, True), (False, 0), (0, False), (True, True), (1, 0), (0, 1), ("1", 1), (1, None), ([1], 1), (1, (1,))):
+            self.assert_raises_just(NoReading, self, lab.trust, "a", 0, turn, counter, held_like=(turn, counter))
+            if (turn, counter) not in ((1, 0), (0, 1)):
+                self.assert_raises_just(NoReading, self, lab.doubt, "a", 0, turn, counter, held_like=(turn, counter))
+        for strand in (False, None, 1, "0"):
+            self.assert_raises_just(NoStrand, strand, lab.trust, "a", strand, 1, 1)
+        lab.trust("a", 0, 1, 1)
+        lab.trust("a", 0, 0, 0)
 
     def test_questions_and_counts_of_watches(self):
         self.refused(BadQuestion, ANY_VALUES + list(twists(ASKED)), judged_question, lambda lab, value: lab.watch("new", value, 0))

@@ -287,6 +287,11 @@ class TestForms(TextTest):
             self.assert_raises_just(BadText, self, read_lab, LAB.replace("watch w 0", "watch w " + word), word="line", held_like=LAB.count("\n"))
         self.assert_like(read_question("kind a -999999999999999999"), (("kind", "a", -999999999999999999),))
 
+    def test_counters_with_more_than_one_size(self):
+        for line, right in (("counter a / 2", True), ("counter a / 2 / 3", False), ("counter a / 2 3", False), ("counter a /", False), ("counter / 2", False), ("counter a / b", False),
+                            ("counter a 2", False), ("counter a -", False), ("counter a / - / 2", False), ("counter a / 2 b", False)):
+            self.assertEqual(self.judged("counter", read_counters, line), "value" if right else "BadText", line)
+
     def test_what_the_lines_tell(self):
         for text in ("step a > b", "step a >\nstep a >", "step a x*0 >", "step a x*6 >", "step a x*-1 >", "step b > c a\nstep a >\nstep c >", "step a x*1 x*2 >", "step a y*1 x*1 >",
                      "step a > a a", "step a > a b c d\nstep b >\nstep c >\nstep d >"):

@@ -13,7 +13,8 @@ from fitruns.records import alike
 from fitruns.twins import shows_unsure, unsure
 from tests import plain, plain_plans
 from tests.samples import (
-    ALONE, APART, COUNTERS, DIAMOND, FORK, FULL, LOST, NONE, RING, ROUNDS, STAYS, TICK, TWO_WAYS, WAITS, short_plan, some_program,
+    ALONE, APART, COUNTERS, DIAMOND, FORK, FULL, LOST, NONE, RING, ROUNDS, STAYS, TICK, TWO_WAYS, WAITS, ringed_program,
+    short_plan, some_program,
 )
 from tests.support import ANY_VALUES, FitTest, is_int, twists
 from tests.test_questions import judged_question
@@ -28,6 +29,21 @@ QUESTIONS = (
 )
 LITTLE = ((("x",), None),), ((("x", "y"), 2),), ((("x", "z"), 3), (("y",), None)), ((("hit", "miss", "x"), None), (("x", "y"), 4))
 GREAT = 999999999999999999
+# Rings that are entered at several places, and such that some ways round them gain nothing.
+HARD = (
+    ((("a", (("x", 3),), ("b", "c", "d")), ("b", (("x", 2), ("y", 2)), ("c", "d", "e")), ("c", (("x", 3), ("y", 3)), ("d",)), ("d", (("x", 2), ("y", 2)), ("b", "e")), ("e", (), ())),
+     ((("x", "y"), 3),), ((2, ("x",)),), (("kind", "z", -2), ("step", "b", -1), ("step", "d", 1), ("step", "q", 1))),
+    ((("a", (("x", 3), ("y", 1)), ("a", "b", "d")), ("b", (("x", 2),), ("b", "d", "e")), ("c", (("x", 2),), ("a", "d", "e")), ("d", (), ("b",)), ("e", (), ())),
+     ((("x", "y"), None),), ((3, ("x",)),), (("step", "d", -1),)),
+    ((("a", (("x", 3), ("y", 2)), ("a", "c", "e")), ("b", (("x", 2),), ("b", "c", "e")), ("c", (("x", 2), ("y", 2)), ("b",)), ("d", (("y", 1),), ("b", "d", "e")), ("e", (), ())),
+     ((("x", "y"), 3),), ((2, ("y",)),), (("kind", "y", 2), ("kind", "z", -7), ("step", "b", -2), ("step", "c", 3))),
+    ((("a", (("x", 3), ("y", 1)), ("a", "c")), ("b", (), ("b", "c")), ("c", (("x", 3), ("y", 3)), ("b", "d")), ("d", (), ())),
+     ((("x", "y"), 3),), ((1, ("x",)),), (("kind", "hit", -7), ("kind", "y", -1))),
+    ((("a", (), ("c", "d")), ("b", (("x", 1),), ("b", "d")), ("c", (("x", 3), ("y", 2)), ("a", "b")), ("d", (), ())),
+     ((("x", "y"), None),), ((1, (None,)),), (("kind", "x", 1),)),
+    ((("a", (), ("b", "c", "e")), ("b", (("x", 2), ("y", 1)), ("a", "c", "e")), ("c", (("x", 2), ("y", 1)), ("c", "d", "e")), ("d", (), ("c",)), ("e", (), ())),
+     ((("x", "y"), None),), ((1, (None,)), (2, (None,))), (("kind", "miss", -1), ("step", "a", -1), ("step", "b", 1), ("step", "d", 2))),
+)
 
 
 def some_question(draw):
@@ -106,6 +122,31 @@ class TestAgainstAListing(FitTest):
         self.assertGreater(told["grows"], 30)
         self.assertGreater(told["most"] - sure, 40)
         self.assertGreater(sure, 100)
+
+    def test_many_rings(self):
+        draw = random.Random(1100)
+        told = {"none": 0, "most": 0, "grows": 0}
+        sure = 0
+        for _ in range(1500):
+            steps, counters = ringed_program(draw), draw.choice(LITTLE[:3])
+            settings = plain.all_settings(counters)
+            plan = tuple((draw.choice((1, 1, 2, 3)), draw.choice(settings)) for _ in range(draw.choice((1, 1, 2))))
+            question = some_question(draw)
+            value = unsure(Program(steps), counters, plan, question)
+            self.assertTrue(plain_plans.shows_unsure(steps, counters, plan, question, value), (steps, counters, plan, question, value))
+            told[value[0]] += 1
+            sure += value[:2] == ("most", 0)
+            if value[0] == "most":
+                runs = plain_plans.whole_runs(steps, 6)
+                self.assertLessEqual(plain_plans.most_apart(steps, counters, plan, question, runs) if runs else 0, value[1])
+        self.assertGreater(told["grows"], 200)
+        self.assertGreater(told["most"] - sure, 15)
+
+    def test_rings_with_more_than_one_entry(self):
+        for steps, counters, plan, question in HARD:
+            value = unsure(Program(steps), counters, plan, question)
+            self.assertTrue(plain_plans.shows_unsure(steps, counters, plan, question, value), (steps, counters, plan, question, value))
+        self.assertEqual([unsure(Program(steps), counters, plan, question)[0] for steps, counters, plan, question in HARD], ["most"] * 3 + ["grows"] * 3)
 
     def test_no_two_short_runs_differ_by_more(self):
         reached = 0
@@ -269,6 +310,28 @@ class TestShowing(FitTest):
                                     ((list(one), other), (1, 3), False), ((one, other), (1, "3"), False), ((one, other), (None, 3), False)):
             value = ("grows",) + runs + places
             self.assertIs(self.assert_judged(ROUNDS, NONE, plan, X, value), right, value)
+
+    def test_rings_at_other_steps(self):
+        # Without the part both are alike, but it does not come back to the step that it began behind.
+        steps = (("a", (), ("b", "d", "e")), ("b", (("x", 1),), ("c",)), ("c", (), ("d",)), ("d", (), ()), ("e", (), ("c",)))
+        one, other, plan = ("a", "b", "c", "d"), ("a", "e", "c", "d"), ((2, (None,)),)
+        self.assertTrue(plain_plans.are_twins(steps, NONE, plan, one[:1] + one[3:], other[:1] + other[3:]))
+        self.assertFalse(self.assert_judged(steps, NONE, plan, X, ("grows", one, other, 1, 3)))
+        steps = (("a", (), ("b", "d")), ("b", (("x", 1),), ("a", "c")), ("c", (), ("d",)), ("d", (), ()))
+        one, other = ("a", "b", "a", "d"), ("a", "b", "c", "d")
+        for runs in ((one, other), (other, one)):
+            for asked in (X, (("step", "a", 1),), (("step", "c", 1),)):
+                self.assertFalse(self.assert_judged(steps, NONE, plan, asked, ("grows",) + runs + (1, 3)))
+
+    def test_rings_without_which_the_runs_are_not_alike(self):
+        steps = (("s", (), ("h", "l")), ("h", (("x", 1),), ("e", "l", "m")), ("l", (), ("e", "h", "m")), ("m", (), ("h", "l")), ("e", (), ()))
+        plan, one, other = ((3, ("x",)), (1, ("x",))), tuple("shlmlhe"), tuple("slhmhle")
+        self.assertTrue(plain_plans.are_twins(steps, NONE, plan, one, other))
+        self.assertFalse(plain_plans.are_twins(steps, NONE, plan, one[:2] + one[6:], other[:2] + other[6:]))
+        self.assertFalse(self.assert_judged(steps, NONE, plan, (("step", "l", 1),), ("grows", one, other, 2, 6)))
+        loose = ((3, (None,)), (1, ("x",)))
+        self.assertTrue(self.assert_judged(steps, NONE, loose, (("step", "l", 1),), ("grows", one, other, 2, 6)))
+        self.assertFalse(self.assert_judged(steps, NONE, loose, (("step", "l", -1),), ("grows", one, other, 2, 6)))
 
     def test_tables_otherwise(self):
         verdicts, draw = [], random.Random(111)
