@@ -118,7 +118,7 @@ class Lab:
             return False
         return self._scene.by_case == other._scene.by_case and self.watches == other.watches
 
-    def show_scene(self, scene):
+    def hold(self, scene):
         """Hold this from now on, whatever was ahead."""
         self._scene = scene
         self.program = scene.program
@@ -130,7 +130,7 @@ class Lab:
         """An equal lab, without deeds and news."""
         lab = Lab(self.program, self.counters)
         # Scenes are never changed, only left for others: both labs can hold the same one.
-        lab.show_scene(self._scene)
+        lab.hold(self._scene)
         return lab
 
     def held(self, case):
@@ -153,7 +153,7 @@ class Lab:
     def _turn(self, scene):
         self.news = _news_between(self.counters, self._scene, scene)
         self.deeds = len(self._past)
-        self.show_scene(scene)
+        self.hold(scene)
 
     def _do(self, word, scene):
         self._past.append((word, self._scene))

@@ -221,5 +221,5 @@ def read_lab(text):
     program = Program(tuple(steps))
     counters = _checked_counters(told)
     lab = Lab(program, counters)
-    lab.show_scene(Scene(program, _cases_told(program, counters, cases), _watches_told(watches)))
+    lab.hold(Scene(program, _cases_told(program, counters, cases), _watches_told(watches)))
     return lab
