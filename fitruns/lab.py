@@ -78,9 +78,7 @@ def _is_settled(scene, watch, told):
 
 def _has_changed(earlier, now, watch, case):
     # With the program all cases go, so that it need not be compared.
-    if earlier.by_case.get(case) != now.by_case.get(case):
-        return True
-    return earlier.by_watch.get(watch) != now.by_watch.get(watch)
+    return earlier.by_case.get(case) != now.by_case.get(case) or earlier.by_watch.get(watch) != now.by_watch.get(watch)
 
 
 def _names_in(one, other):

@@ -93,13 +93,13 @@ def _roots(rings):
 
 
 def _heights(graph, followers, trees):
-    """The greatest gain up to each live node, where no ring gains or loses anything; what their trees reach is in order."""
+    """The greatest gain up to each live node, where no ring gains or loses anything; trees of the rings in order."""
     heights = {0: graph.gains[0]}
     for reached in trees:
         # How high the root would have to be, by each node of its ring to which a way from outside comes.
-        bases = [heights[node] - reached[node] for node in reached if node in heights]
+        base = max([heights[node] - reached[node] for node in reached if node in heights])
         for node in reached:
-            heights[node] = max(bases) + reached[node]
+            heights[node] = base + reached[node]
         for node in reached:
             for later in followers[node]:
                 height = heights[node] + graph.gains[later]
